@@ -185,7 +185,7 @@ func TestInStep(t *testing.T) {
 	}
 }
 
-// 15.3: what was recorded is heard one frame later, the more like it the more bytes there are for it.
+// What was recorded is heard one frame later, the more like it the more bytes there are for it: no promise by itself, but what packets are for.
 func TestHeard(t *testing.T) {
 	row := rows()[2]
 	off := func(size int) int {
